@@ -1,24 +1,52 @@
 """Rows over some numbers, the bound last; the points that hold them; and rooms, lists of rows."""
 
-from steadyhand.fractions import common_divisor, fraction, under
+from steadyhand.fractions import common_divisor, fraction, is_whole, under
+from steadyhand.tables import unit
+
+
+def is_row(value, many):
+    return isinstance(value, tuple) and len(value) == many + 1 and all([is_whole(number) for number in value])
+
+
+def is_room(value, many):
+    return isinstance(value, list) and all([is_row(row, many) for row in value])
+
+
+def single(place, many, number, bound):
+    return tuple(unit(place, many, number)) + (bound,)
+
+
+def raw_sum(numbers, point):
+    # Not brought to lowest terms: that is the slow part of adding, and only what is told needs it.
+    top = 0
+    bottom = 1
+    for number, part in zip(numbers, point):
+        top = top * part[1] + number * part[0] * bottom
+        bottom = bottom * part[1]
+    return (top, bottom)
 
 
 def along(row, point):
-    # Brought to lowest terms only once, at the end: that is the slow part of adding.
-    top = 0
-    bottom = 1
-    for number, part in zip(row[:-1], point):
-        top = top * part[1] + number * part[0] * bottom
-        bottom = bottom * part[1]
-    return fraction(top, bottom)
+    total = raw_sum(row[:-1], point)
+    return fraction(total[0], total[1])
+
+
+def divided_sum(numbers, point, add, divisor):
+    total = raw_sum(numbers, point)
+    return fraction(total[0] + add * total[1], total[1] * divisor)
 
 
 def holds(row, point):
-    return not under(fraction(row[-1]), along(row, point))
+    total = raw_sum(row[:-1], point)
+    return total[0] <= row[-1] * total[1]
 
 
 def lies_in(room, point):
     return all([holds(row, point) for row in room])
+
+
+def other_side(row):
+    return tuple([-number for number in row])
 
 
 def direction(row):

@@ -107,8 +107,8 @@ class SteeringTest(Case):
         rule = Stopped(Straight([1], 0, 2), -2, 3)
         for value, wanted in (
                 ((-100, 1), (-2, 1)), ((-5, 1), (-2, 1)), ((-4, 1), (-2, 1)), ((-7, 2), (-7, 4)), ((0, 1), (0, 1)),
-                ((5, 1), (5, 2)), ((6, 1), (3, 1)), ((13, 2), (3, 1)), ((100, 1), (3, 1)), ((-4 * LONG - 1, LONG), (-2, 1)),
-                ((6 * LONG + 1, LONG), (3, 1))):
+                ((5, 1), (5, 2)), ((6, 1), (3, 1)), ((13, 2), (3, 1)), ((100, 1), (3, 1)),
+                ((-4 * LONG - 1, LONG), (-2, 1)), ((6 * LONG + 1, LONG), (3, 1))):
             with self.subTest(value=value):
                 self.assertEqual(rule.steering([value]), wanted)
         self.assertEqual(Stopped(Straight([1], 0), 4, 4).steering([(9, 2)]), (4, 1))
@@ -126,7 +126,8 @@ class SteeringTest(Case):
         rule = Stopped(
             Parted((1, 0), Stopped(Straight([3], 1), -4, 2), Parted((1, 5), Straight([-2], 0), Straight([1], 0, 3))),
             -6, 3)
-        for number, wanted in ((-3, -4), (-1, -2), (0, 1), (1, -2), (3, -6), (5, -6), (6, 2), (8, Fraction(8, 3)), (99, 3)):
+        for number, wanted in (
+                (-3, -4), (-1, -2), (0, 1), (1, -2), (3, -6), (5, -6), (6, 2), (8, Fraction(8, 3)), (99, 3)):
             with self.subTest(number=number):
                 self.assertEqual(exact(rule.steering([(number, 1)])), wanted)
 

@@ -38,7 +38,8 @@ def bad_rules(many):
     row = tuple([1] * (many + 1))
     return NOT_RULES + (
         Straight([1] * (many + 1), 0), Straight([1] * (many - 1), 0), Straight([1] * many, 0, 0),
-        Straight([1] * many, True), Straight(tuple([1] * many), 0), Stopped(good, 1, 0), Stopped(None, 0, 1), Parted(row[1:], good, good),
+        Straight([1] * many, True), Straight(tuple([1] * many), 0), Stopped(good, 1, 0), Stopped(None, 0, 1),
+        Parted(row[1:], good, good),
         Parted(row + (1,), good, good), Parted(list(row), good, good), Parted(row, good, None), Parted(row, None, good))
 
 

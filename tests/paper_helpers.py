@@ -18,15 +18,15 @@ def around_0(size, many):
             for place in range(many) for sign in (1, -1)]
 
 
-def draw_shrinking(source, many):
+def draw_shrinking(source, many, plain=False):
     """A closed thing of one or two modes that goes toward 0 more often than not."""
     wide = source.randint(0, 1)
     modes = [Mode(
-        draw_room(source, many, 2, source.randint(0, 1), low=0),
+        draw_room(source, many, 2, 0 if plain else source.randint(0, 1), low=0),
         [[source.choice((0, 0, 1, -1)) if other != place else 1 for other in range(many)] for place in range(many)],
         [0] * many, [[source.randint(-1, 1) for push in range(wide)] for place in range(many)],
         [source.randint(-1, 1) for place in range(many)], source.randint(2, 3))
-        for number in range(source.randint(1, 2))]
+        for number in range(1 if plain else source.randint(1, 2))]
     return Thing(many, [(-1, 1)] * wide, modes)
 
 

@@ -52,6 +52,8 @@ def axes(many):
 def first_corner(rows, count):
     corner = list(range(count, len(rows)))
     for number in range(count):
+        if max(corner) < count:
+            return corner
         weights = weights_of(rows, corner, rows[number])
         place = least_place(corner, [axis >= count and weight[0] != 0 for axis, weight in zip(corner, weights)])
         if place is not None:

@@ -65,6 +65,7 @@ def comes_over(claim, many):
 def lets_rooms_by(thing, claim, paper):
     if not settles_over(claim, thing.many) or not are_rooms(paper.rooms, thing.many):
         return False
+    # That back is a place of rooms asks for one room at least, too.
     if not is_from_0_on(paper.back) or paper.back >= len(paper.rooms):
         return False
     if not each_shown(claim.start, paper.rooms[0], paper.starts):
@@ -73,7 +74,7 @@ def lets_rooms_by(thing, claim, paper):
 
 
 def are_rooms(value, many):
-    return isinstance(value, list) and len(value) > 0 and all([is_room(room, many) for room in value])
+    return isinstance(value, list) and all([is_room(room, many) for room in value])
 
 
 def rooms_follow(thing, paper):

@@ -1,7 +1,7 @@
 """Runs of a thing: which steps can be made, and the points that come of them."""
 
 from steadyhand.errors import NoRun
-from steadyhand.fractions import fraction, is_whole, under
+from steadyhand.fractions import fraction, under
 from steadyhand.rows import divided_sum, lies_in
 
 
@@ -31,7 +31,7 @@ def walked(thing, point, run):
 
 
 def can_be_made(modes, bounds, point, step):
-    if not is_whole(step[0]) or step[0] < 0 or step[0] >= len(modes):
+    if step[0] < 0 or step[0] >= len(modes):
         return False
     if not lies_in(modes[step[0]].rows, point) or len(step[2]) != len(bounds):
         return False

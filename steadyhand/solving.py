@@ -4,7 +4,7 @@ from steadyhand.fractions import fraction
 
 
 def solved(rows):
-    left = list(rows)
+    left = rows
     last = 1
     for place in range(len(rows)):
         found = first_with(left, place)

@@ -116,6 +116,15 @@ def draw_rule(source, many, depth):
     return Parted(draw_row(source, many, 2), draw_rule(source, many, depth - 1), draw_rule(source, many, depth - 1))
 
 
+def plain(rule):
+    """A rule as nested tuples, so that two can be compared."""
+    if isinstance(rule, Straight):
+        return ("straight", rule.numbers, rule.add, rule.divisor)
+    if isinstance(rule, Stopped):
+        return ("stopped", plain(rule.rule), rule.low, rule.high)
+    return ("parted", rule.row, plain(rule.rule), plain(rule.other))
+
+
 def draw_fraction(source, size=6):
     return told(Fraction(source.randint(-size, size), source.randint(1, size)))
 

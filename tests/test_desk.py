@@ -130,6 +130,11 @@ class AnsweringTest(DeskCase):
         self.says(ADDING, "steering -2 2 1 | 1 10, -1 10 | 21/2", "none")
         self.says(FREE, "steering -2 2 1 | 1 10, -1 10 | 6", "-2")
         self.says(FREE, "steering -2 2 1 | 1 10, -1 10 | 7", "none")
+        # Each of low, high and turns counts at its place.
+        self.says(FREE, "steering -1 -1 1 | 1 10, -1 10 | 5", "-1")
+        self.says(FREE, "steering 1 3 2 | 1 10, -1 10 | -19/4", "3")
+        self.says(FREE, "steering 1 3 2 | 1 10, -1 10 | -5", "none")
+        self.says(FREE, "steering 1 3 1 | 1 10, -1 10 | -6", "2")
         self.assertIn(desk_with(FREE).say("steering -20 20 1 | 1 1, -1 1 | 1/3"), ("-5/3", "1/3"))
 
     def test_pushes(self):
@@ -138,6 +143,11 @@ class AnsweringTest(DeskCase):
         self.says(ADDING, "pushes -2 2 1 | 1 10, -1 10 | 9 | 0", "none")
         self.says(FREE, "pushes -2 2 1 | 1 10, -1 10 | 7 | -2", "")
         self.says(FREE, "pushes -2 2 1 | 1 10, -1 10 | 6 | -2", "none")
+        # Against the held room of one turn, from -13/2 to 9/2.
+        self.says(FREE, "pushes 1 3 2 | 1 10, -1 10 | -19/4 | 3", "none")
+        self.says(FREE, "pushes 1 3 2 | 1 10, -1 10 | -19/4 | 2", "")
+        self.says(FREE, "pushes 1 3 2 | 1 10, -1 10 | 7/4 | 1", "none")
+        self.says(FREE, "pushes 1 3 2 | 1 10, -1 10 | 2 | 1", "")
         wide = "numbers 1\npush -1 1\npush -3 0\nmode 1\nnext 1 1 1 -2 0"
         self.says(wide, "pushes -2 2 1 | 1 10 | 3 | 1", "1 -3")
 

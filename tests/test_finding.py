@@ -41,6 +41,13 @@ class RoomPaperTest(Case):
         self.assertIsNone(room_paper(HALVING, Settles(between(0, 0), between(-9, 9)), between(-1, 1)))
         self.found(HALVING, Settles(between(0, 0), between(-9, 9)), between(-2, 2))
 
+    def test_what_is_no_room_or_no_claim_over_so_many_numbers(self):
+        claim = Settles(between(-3, 3), between(-3, 3))
+        for wrong in (None, (), [None], [(1,)], [(1, 2, 3)], [[1, 3]], [(1, True)]):
+            self.assertIsNone(room_paper(HALVING, claim, wrong))
+            self.assertIsNone(room_paper(HALVING, Settles(wrong, between(-3, 3)), between(-3, 3)))
+            self.assertIsNone(room_paper(HALVING, Settles(between(-3, 3), wrong), between(-3, 3)))
+
     def test_a_claim_of_the_other_kind(self):
         self.assertIsNone(room_paper(HALVING, Comes(between(-3, 3), between(-3, 3), 3), between(-3, 3)))
 
@@ -136,6 +143,42 @@ class MeasurePaperTest(Case):
         self.found(thing, claim, [(-1, 0)], (-1, 100))
         self.assertIsNone(measure_paper(thing, Comes([(-1, 0)], [(-1, -100)], 100), [(-1, 0)], (-1, 100)))
         self.assertIsNone(measure_paper(thing, claim, [(-1, 0)], (1, 100)))
+
+    def test_a_height_that_rises_without_end(self):
+        # Doubled each turn: the greater the number, the more it grows, and nothing bounds that.
+        thing = Thing(1, [], [Mode([], [[2]], [0], [[]], [0], 1)])
+        for turns in (1, 9, 1000):
+            self.assertIsNone(measure_paper(thing, Comes(between(0, 5), [(1, 1)], turns), [(-1, 0)], (1, 0)))
+
+    def test_a_step_of_0_is_none(self):
+        # It stays where it is; of a start without points the top is free, but the step must be 1 or more.
+        still = Thing(1, [], [Mode([], [[1]], [0], [[]], [0], 1)])
+        for start in ([(1, 0), (-1, -1)], between(5, 9)):
+            self.assertIsNone(measure_paper(still, Comes(start, [(1, 2)], 5), between(0, 10), (1, -2)))
+        rising = Thing(1, [], [Mode([(1, 8)], [[1]], [0], [[]], [1], 1)])
+        self.assertIsNone(measure_paper(rising, Comes([(0, -1)], [(1, 2)], 5), between(0, 10), (1, -2)))
+        self.found(rising, Comes([(0, -1)], [(-1, -8)], 5), between(0, 10), (-1, 8))
+
+    def test_two_numbers(self):
+        # Each number goes down by one in a turn while their sum is 4 or more.
+        thing = Thing(2, [(0, 1)], [Mode([(-1, -1, -4)], [[1, 0], [0, 1]], [0, 0], [[-1], [0]], [-1, -1], 1)])
+        room = [(1, 0, 10), (0, 1, 10), (-1, -1, 9)]
+        start = [(1, 0, 10), (0, 1, 10), (-1, -1, -4)]
+        # The tops are 15, 45 and 37; the steps 2, 6 and 3.
+        for measure, turns in (((1, 1, -5), 8), ((3, 3, -15), 8), ((2, 1, 7), 13)):
+            self.found(thing, Comes(start, [(1, 1, 5)], turns), room, measure)
+            self.assertIsNone(measure_paper(thing, Comes(start, [(1, 1, 5)], turns - 1), room, measure))
+        # At (10, -5), beside the goal, the height is below 0.
+        self.assertIsNone(measure_paper(thing, Comes(start, [(1, 1, 5)], 99), room, (1, 2, -1)))
+
+    def test_what_is_no_room_measure_or_claim_over_so_many_numbers(self):
+        claim = Comes(between(0, 10), [(1, 2)], 9)
+        for wrong in (None, (), [None], [(1,)], [(1, 2, 3)], [[1, 3]], [(1, True)]):
+            self.assertIsNone(measure_paper(SINKING, claim, wrong, (1, -2)))
+            self.assertIsNone(measure_paper(SINKING, Comes(wrong, [(1, 2)], 9), between(-2, 10), (1, -2)))
+            self.assertIsNone(measure_paper(SINKING, Comes(between(0, 10), wrong, 9), between(-2, 10), (1, -2)))
+        for wrong in (None, (), (1,), (1, -2, 0), [1, -2], (1, True)):
+            self.assertIsNone(measure_paper(SINKING, claim, between(-2, 10), wrong))
 
     def test_a_step_of_more_than_1(self):
         # It falls by 5 each turn; from 20 it is below 0 in the fifth.

@@ -24,6 +24,12 @@ OPEN = Thing(1, [(-2, 2)], [Mode([], [[1]], [1], [[1]], [0], 2)])
 SINKING = Thing(1, [(0, 1)], [Mode([(-1, 0)], [[1]], [0], [[-1]], [-1], 1)])
 SINK_CLAIM = Comes(between(0, 10), [(1, 2)], 9)
 SINK_ROOM = between(-2, 10)
+# Either number goes down by one or two, whichever mode is taken, while their sum is 4 or more.
+SINK_TWO = Thing(2, [(0, 1), (0, 1)], [
+    Mode([(-1, -1, -4)], [[1, 0], [0, 1]], [0, 0], [[-1, 0], [0, 0]], [-1, 0], 1),
+    Mode([(-1, -1, -4)], [[2, 0], [0, 2]], [0, 0], [[0, 0], [0, -2]], [0, -2], 2)])
+SINK_TWO_CLAIM = Comes([(1, 0, 10), (0, 1, 10), (-1, -1, -4)], [(1, 1, 5)], 16)
+SINK_TWO_ROOM = [(1, 0, 10), (0, 1, 10), (-1, -1, -2)]
 
 
 def parts_of(paper):
@@ -113,7 +119,9 @@ class MakingTest(PaperCase):
     def test_it_refuses_nothing(self):
         inside_itself = []
         inside_itself.append(inside_itself)
-        for value in NOT_LISTS + NOT_WHOLE + (inside_itself, object(), [[[[[[[1]]]]]]]):
+        around = []
+        around.append((around,))
+        for value in NOT_LISTS + NOT_WHOLE + (inside_itself, around, object(), [[[[[[[1]]]]]]]):
             self.assertIsInstance(Rooms(value, value, value, value, value), Paper)
             self.assertIsInstance(Falls(*[value] * 9), Paper)
             self.not_let_by(HALVING, Settles(START, START), Rooms(value, value, value, value, value))
@@ -127,20 +135,14 @@ class MakingTest(PaperCase):
             made = made_of(parts)
             before = parts_of(made)
             for name in parts:
-                for path in list(places_within(parts[name])):
-                    inner = at(parts[name], path) if self.still_there(parts[name], path) else None
+                # The innermost first: once a list is changed, the paths through it lead elsewhere.
+                for path in reversed(list(places_within(parts[name]))):
+                    inner = at(parts[name], path)
                     if isinstance(inner, list):
                         inner.append("more")
                         inner.insert(0, None)
             self.assertIsInstance(made, wanted)
             self.assertEqual(parts_of(made), before)
-
-    def still_there(self, value, path):
-        for place in path:
-            if not isinstance(value, (list, tuple)) or place >= len(value):
-                return False
-            value = value[place]
-        return True
 
 
 class RoomsLetByTest(PaperCase):
@@ -299,6 +301,11 @@ class RoomsNotLetByTest(PaperCase):
         self.not_let_by(HALVING, Settles(two, two), self.PAPER)
         self.not_let_by(HALVING, self.CLAIM, None)
         self.not_let_by(HALVING, self.CLAIM, Paper())
+        for wrong in (None, (), [None], [(1,)], [(1, 2, 3)], [[1, 10]], [(1, True)]):
+            self.not_let_by(HALVING, Settles(wrong, between(-6, 6), 1), self.PAPER)
+            self.not_let_by(HALVING, Settles(START, wrong, 1), self.PAPER)
+        for wrong in (None, True, -1, "1", [1]):
+            self.not_let_by(HALVING, Settles(START, between(-6, 6), wrong), self.PAPER)
 
     def test_a_paper_for_another_thing(self):
         for thing in (
@@ -375,15 +382,10 @@ class FallsLetByTest(PaperCase):
         self.not_let_by(SINKING, claim, built_fall(SINKING, claim, SINK_ROOM, (1, -3), 1, 7))
 
     def test_several_modes_pushes_and_two_numbers(self):
-        # Either number goes down by one or two, whichever mode is taken, while their sum is 4 or more.
-        one = Mode([(-1, -1, -4)], [[1, 0], [0, 1]], [0, 0], [[-1, 0], [0, 0]], [-1, 0], 1)
-        other = Mode([(-1, -1, -4)], [[2, 0], [0, 2]], [0, 0], [[0, 0], [0, -2]], [0, -2], 2)
-        thing = Thing(2, [(0, 1), (0, 1)], [one, other])
-        room = [(1, 0, 10), (0, 1, 10), (-1, -1, -2)]
-        claim = Comes([(1, 0, 10), (0, 1, 10), (-1, -1, -4)], [(1, 1, 5)], 16)
-        self.let_by(thing, claim, built_fall(thing, claim, room, (1, 1, -5), 1, 15))
+        claim = SINK_TWO_CLAIM
+        self.let_by(SINK_TWO, claim, built_fall(SINK_TWO, claim, SINK_TWO_ROOM, (1, 1, -5), 1, 15))
         short = Comes(claim.start, claim.goal, 15)
-        self.not_let_by(thing, short, built_fall(thing, short, room, (1, 1, -5), 1, 15))
+        self.not_let_by(SINK_TWO, short, built_fall(SINK_TWO, short, SINK_TWO_ROOM, (1, 1, -5), 1, 15))
 
     def test_long_numbers(self):
         sinking = Thing(1, [(0, LONG)], [Mode([(-1, 0)], [[1]], [0], [[-1]], [-LONG], 1)])
@@ -402,6 +404,11 @@ class FallsNotLetByTest(PaperCase):
         self.let_by(SINKING, self.CLAIM, self.PAPER)
         for name in ("starts", "steps", "falls", "floors", "tops", "measure"):
             self.check_spoilt(SINKING, self.CLAIM, self.PAPER, name)
+
+    def test_whatever_is_changed_in_one_over_two_numbers(self):
+        paper = built_fall(SINK_TWO, SINK_TWO_CLAIM, SINK_TWO_ROOM, (1, 1, -5), 1, 15)
+        for name in ("starts", "steps", "falls", "floors", "tops", "measure"):
+            self.check_spoilt(SINK_TWO, SINK_TWO_CLAIM, paper, name)
 
     def test_room_measure_step_and_top_of_other_kinds(self):
         for wrong in NOT_LISTS + ([None], [(1,)], [(1, 2, 3)], [[1, 10], [-1, 2]], tuple(SINK_ROOM), SINK_ROOM[:1],
@@ -428,6 +435,11 @@ class FallsNotLetByTest(PaperCase):
         fast = Thing(1, [(0, 1)], [Mode([(-1, 0)], [[1]], [0], [[-1]], [-2], 1)])
         self.not_let_by(fast, self.CLAIM, self.PAPER)
         self.not_let_by(SINKING, Comes([(1, 0, 1)], [(1, 0, 1)], 14), self.PAPER)
+        for wrong in (None, (), [None], [(1,)], [(1, 2, 3)], [[1, 10]], [(1, True)]):
+            self.not_let_by(SINKING, Comes(wrong, between(1, 3), 14), self.PAPER)
+            self.not_let_by(SINKING, Comes(between(2, 10), wrong, 14), self.PAPER)
+        for wrong in (None, True, -1, "14", [14], 14.5):
+            self.not_let_by(SINKING, Comes(between(2, 10), between(1, 3), wrong), self.PAPER)
 
     def test_it_is_the_height_behind_that_counts(self):
         # Halved each turn: from 8 it falls by 4, from 3 by 3/2, from 1 by a half alone.

@@ -5,19 +5,11 @@ import unittest
 from fractions import Fraction
 
 from helpers import (
-    LONG, LONG_OTHER, NOT_LISTS, NOT_WHOLE, Case, drawn, draw_point, draw_rule, exact, exact_along)
+    LONG, LONG_OTHER, NOT_LISTS, NOT_WHOLE, Case, drawn, draw_point, draw_rule, exact, exact_along,
+    plain)
 from steadyhand.errors import BadRule, TooMany
 from steadyhand.rows import lies_in
 from steadyhand.rules import Parted, Rule, Stopped, Straight, pieces
-
-
-def plain(rule):
-    """A rule as nested tuples, so that two can be compared."""
-    if isinstance(rule, Straight):
-        return ("straight", rule.numbers, rule.add, rule.divisor)
-    if isinstance(rule, Stopped):
-        return ("stopped", plain(rule.rule), rule.low, rule.high)
-    return ("parted", rule.row, plain(rule.rule), plain(rule.other))
 
 
 def plain_pieces(rule, many):

@@ -3,7 +3,7 @@
 import unittest
 
 from helpers import (
-    Case, drawn, draw_fraction, draw_numbers, draw_point, draw_room, draw_rule, draw_thing, whole_thing)
+    Case, drawn, draw_fraction, draw_numbers, draw_point, draw_room, draw_rule, draw_thing, plain, whole_thing)
 from steadyhand.claims import Comes, Settles
 from steadyhand.errors import BadThing, NoText, TooMany
 from steadyhand.rules import Parted, Stopped, Straight
@@ -21,14 +21,6 @@ NO_NUMBERS = (
 NO_FRACTIONS = NO_NUMBERS + (
     "2/4", "0/2", "0/1", "1/1", "5/1", "-3/1", "1/0", "0/0", "1/-2", "-1/-2", "3/6", "-3/6", "1/02", "01/2", "-0/2",
     "1/2/3", "1 /2", "1/ 2", "1/2 ", " 1/2", "4/2", "1/" + "1" * 61, "1" * 61 + "/2", "1/+2", "+1/2", "1/2.0")
-
-
-def plain(rule):
-    if isinstance(rule, Straight):
-        return ("straight", rule.numbers, rule.add, rule.divisor)
-    if isinstance(rule, Stopped):
-        return ("stopped", plain(rule.rule), rule.low, rule.high)
-    return ("parted", rule.row, plain(rule.rule), plain(rule.other))
 
 
 def plain_claim(claim):

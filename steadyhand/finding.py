@@ -64,7 +64,7 @@ def measure_paper(thing, claim, room, measure):
 def least_top(start, measure):
     told = most(start, measure)
     if told[0] == "empty":
-        # Any top will do; below 0 there is none that asks for turns.
+        # Any top is shown, and one below 0 asks for no turns.
         return -1
     if told[0] == "open":
         return None
@@ -75,8 +75,8 @@ def greatest_step(thing, claim, room, measure, top):
     # Where nothing bounds the step, a step of more than the top comes below 0 in one turn.
     step = None
     for mode in thing.modes():
+        target = without_pushes(thing, fall_row(thing, mode, measure, 0))
         for row in claim.goal:
-            target = without_pushes(thing, fall_row(thing, mode, measure, 0))
             told = most(room + mode.rows + [other_side(row)], target)
             if told[0] == "open":
                 return None

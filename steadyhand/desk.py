@@ -15,10 +15,11 @@ THING_HEAD = "thing\n"
 DONE = "ok"
 NOTHING = "none"
 
-# Of each line but thing: how many blanks are listed in its first part, and how many parts it has.
+# Of each line but thing: how many blanks must stand in its first part, and how many parts it has. Blanks between
+# numbers alone are not counted: too few of those are numbers too few within a part, which is left to the reading.
 FORMS = {
     "steer": (1, 1), "late": (1, 1), "rounded": (2, 1), "turn": (1, 2), "show": (0, 1), "walk": (1, 2),
-    "most": (1, 2), "judge": (2, 5), "held": (3, 2), "steering": (3, 3), "pushes": (3, 4)}
+    "most": (1, 2), "judge": (1, 5), "held": (1, 2), "steering": (1, 3), "pushes": (1, 4)}
 
 
 def fields_of(line, thing):
@@ -78,39 +79,38 @@ def answer_most(thing, fields):
 
 
 def answer_judge(thing, fields):
-    tries = read_number(fields[1])
-    turns = read_number(fields[2])
-    shape = read_tuples(fields[3], thing.many)
-    claim = read_claim(PART_BREAK.join(fields[4:]), thing.many)
-    verdict = judge(thing, claim, shape, tries, turns)
+    numbers = read_numbers(fields[1].split(" "), 2)
+    shape = read_tuples(fields[2], thing.many)
+    claim = read_claim(PART_BREAK.join(fields[3:]), thing.many)
+    verdict = judge(thing, claim, shape, numbers[0], numbers[1])
     if isinstance(verdict, Broken):
         return PART_BREAK.join(["broken " + show_point(verdict.point), show_run(verdict.run)])
     return "held" if verdict.held() else "given up"
 
 
 def game_numbers(fields):
-    return [read_number(field) for field in fields[1:4]]
+    return read_numbers(fields[1].split(" "), 3)
 
 
 def answer_held(thing, fields):
     numbers = game_numbers(fields)
-    safe = read_room(fields[4], thing.many)
+    safe = read_room(fields[2], thing.many)
     return show_room(held_rooms(thing, safe, numbers[0], numbers[1], numbers[2])[-1])
 
 
 def answer_steering(thing, fields):
     numbers = game_numbers(fields)
-    safe = read_room(fields[4], thing.many)
-    point = read_point(fields[5], thing.many)
+    safe = read_room(fields[2], thing.many)
+    point = read_point(fields[3], thing.many)
     steering = holder(thing, safe, numbers[0], numbers[1], numbers[2], point)
     return NOTHING if steering is None else show_fraction(steering)
 
 
 def answer_pushes(thing, fields):
     numbers = game_numbers(fields)
-    safe = read_room(fields[4], thing.many)
-    point = read_point(fields[5], thing.many)
-    steering = read_fraction(fields[6])
+    safe = read_room(fields[2], thing.many)
+    point = read_point(fields[3], thing.many)
+    steering = read_fraction(fields[4])
     pushes = foe(thing, safe, numbers[0], numbers[1], numbers[2], point, steering)
     return NOTHING if pushes is None else show_point(pushes)
 

@@ -184,18 +184,17 @@ class NoRowTest(DeskCase):
     def test_blanks_that_are_missing(self):
         for line in ("steer", "late", "rounded", "rounded ", "rounded 1", "rounded x", "turn", "turn | 1", "walk",
                      "walk | 0 1 1",
-                     "most", "most | all", "judge", "judge | 1 | settles 0 | all | all", "judge 3", "judge 3 3",
-                     "judge 3 | 1 | settles 0 | all | all", "held", "held | all", "held 1 | all", "held 1 2 | all",
-                     "steering 1 2 | all | 1", "steering | all | 1", "pushes 1 2 | all | 1 | 1",
-                     "pushes 1 | all | 1 | 1"):
+                     "most", "most | all", "judge", "judge | 1 | settles 0 | all | all", "held", "held | all",
+                     "steering", "steering | all | 1", "pushes", "pushes | all | 1 | 1"):
             with self.subTest(line=line):
                 self.fails(ADDING, line, NoRow)
 
     def test_parts_that_are_missing(self):
         for line in ("turn 1", "turn 1 |", "turn 1|1", "turn 1 |1", "turn 1| 1", "walk 5", "walk 5 |", "walk 5; 0 1 1",
-                     "most 1", "most 1 |", "judge 3 3 | 1", "judge 3 3 | 1 | settles 0",
+                     "most 1", "most 1 |", "judge 3", "judge 3 3", "judge 3 3 | 1", "judge 3 3 | 1 | settles 0",
                      "judge 3 3 | 1 | settles 0 | all",
-                     "judge 3 3 | 1 | settles 0 | all |", "held 1 2 3", "held 1 2 3 |", "steering 1 2 3 | all",
+                     "judge 3 3 | 1 | settles 0 | all |", "held ", "held 1 2", "held 1 2 3", "held 1 2 3 |",
+                     "steering 1 2 | all", "steering 1 2 3 | all",
                      "pushes 1 2 3 | all | 1", "pushes 1 2 3 | all", "pushes 1 2 3"):
             with self.subTest(line=line):
                 self.fails(ADDING, line, NoRow)
@@ -210,7 +209,7 @@ class NoRowTest(DeskCase):
             self.refused(NoRow, Desk().say, line)
 
     def test_ahead_of_no_text(self):
-        for line in ("turn x", "walk x", "walk x | y | z", "judge x x | x | x", "held x x | x", "rounded x"):
+        for line in ("turn x", "walk x", "walk x | y | z", "judge x x | x | x", "held x x", "rounded x"):
             self.fails(ADDING, line, NoRow)
 
 
@@ -228,7 +227,8 @@ class NoTextTest(DeskCase):
                 "most 1 | ",
                 "most 1 | 1", "most 1 | 1 2 3", "most 1 | x", "held x 2 2 | all", "held -2 x 2 | all",
                 "held -2 2 x | all",
-                "held  2 2 | all", "held -2 2  | all", "held -2 2 2 2 | all", "held 1/2 2 2 | all", "held -2 2 2 | ",
+                "held  2 2 | all", "held -2 2  | all", "held -2 2 2 2 | all", "held x x | x",
+                "held 1/2 2 2 | all", "held -2 2 2 | ",
                 "held -2 2 2 | 1", "steering x 2 2 | all | 1", "steering -2 2 2 | x | 1", "steering -2 2 2 | all | x",
                 "steering -2 2 2 | all | 1 1", "steering -2 2 2 | all | ", "pushes -2 2 x | all | 1 | 1",
                 "pushes -2 2 2 | x | 1 | 1", "pushes -2 2 2 | all | x | 1", "pushes -2 2 2 | all | 1 | x",
@@ -250,6 +250,20 @@ class NoTextTest(DeskCase):
                 self.fails(CLOSED, line, NoText)
                 # Ahead of what the points tell of a thing that is not closed.
                 self.fails(ADDING, line, NoText)
+
+    def test_too_few_or_too_many_numbers_in_the_first_part(self):
+        behind = (("judge", 2, " | 1 | settles 0 | all | all"), ("held", 3, " | all"), ("steering", 3, " | all | 0"),
+                  ("pushes", 3, " | all | 0 | 0"))
+        for name, asked, parts in behind:
+            for count in range(6):
+                line = name + " " + " ".join(["1"] * count) + parts
+                with self.subTest(line=line):
+                    if count == asked:
+                        self.assertIsInstance(desk_with(CLOSED).say(line), str)
+                    else:
+                        self.fails(CLOSED, line, NoText)
+                        # Ahead of what the points tell of a thing that is neither closed nor plain.
+                        self.fails(HALVING, line, NoText)
 
     def test_for_the_thing_that_the_desk_keeps(self):
         for line in ("steer straight 1 0 1", "walk 5 | ", "walk 1 1 | 0 1", "most 1 | all", "most 1 1 | 1 1",
